@@ -1,0 +1,45 @@
+package mean
+
+import (
+	"fathom/api"
+	"fathom/prim"
+)
+
+// whole says whether no part of an expression is missing: what isn't there wants no type, so that layer 7 doesn't tell
+// of it, but it would be looked at.
+func whole(p api.Program) bool {
+	for i := range p.Funcs {
+		if !wholeExpr(&p.Funcs[i].Body) {
+			return false
+		}
+	}
+	return true
+}
+
+func wholeExpr(e *api.Expr) bool {
+	if e.Op != api.OpCall && len(e.Args) != partsOf(e.Op) {
+		return false
+	}
+	for i := range e.Args {
+		if !wholeExpr(&e.Args[i]) {
+			return false
+		}
+	}
+	return true
+}
+
+// partsOf is how many parts an expression has that is no call; -1 of what is none.
+func partsOf(op api.Op) int {
+	switch op {
+	case api.OpNum, api.OpTrue, api.OpFalse, api.OpNil, api.OpFail, api.OpVar:
+		return 0
+	case api.OpCons, api.OpLet, api.OpStrict:
+		return 2
+	case api.OpIf, api.OpCase:
+		return 3
+	}
+	if count, _ := prim.Takes(op); count > 0 {
+		return count
+	}
+	return -1
+}
