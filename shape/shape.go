@@ -1,13 +1,11 @@
-package mean
+// Package shape looks at how expressions are made, for layers that go into an expression's parts by their numbers.
+package shape
 
-import (
-	"fathom/api"
-	"fathom/prim"
-)
+import "fathom/api"
 
-// whole says whether no part of an expression is missing: what isn't there wants no type, so that layer 7 doesn't tell
-// of it, but it would be looked at.
-func whole(p api.Program) bool {
+// Whole says whether no part of an expression is missing, and none is too many: what isn't there wants no type, so that
+// layer 7 doesn't tell of it, but it would be looked at.
+func Whole(p api.Program) bool {
 	for i := range p.Funcs {
 		if !wholeExpr(&p.Funcs[i].Body) {
 			return false
@@ -33,13 +31,12 @@ func partsOf(op api.Op) int {
 	switch op {
 	case api.OpNum, api.OpTrue, api.OpFalse, api.OpNil, api.OpFail, api.OpVar:
 		return 0
-	case api.OpCons, api.OpLet, api.OpStrict:
+	case api.OpNot, api.OpRe, api.OpIm, api.OpConj:
+		return 1
+	case api.OpAdd, api.OpSub, api.OpMul, api.OpQuo, api.OpEq, api.OpLess, api.OpCons, api.OpLet, api.OpStrict:
 		return 2
 	case api.OpIf, api.OpCase:
 		return 3
-	}
-	if count, _ := prim.Takes(op); count > 0 {
-		return count
 	}
 	return -1
 }
