@@ -1,6 +1,7 @@
 package machine
 
 import (
+	"math"
 	"math/rand"
 	"slices"
 	"testing"
@@ -52,6 +53,12 @@ func lineOf(t *testing.T, text string) []api.Arg {
 		t.Fatalf("%q: %v", text, e)
 	}
 	return valueArgs(l)
+}
+
+// isZero tells a -0 from 0.
+func isZero(v api.Value) bool {
+	bits := math.Float64bits(real(v.Num)) | math.Float64bits(imag(v.Num))
+	return v.Type == 0 && bits == 0 && !v.Bool && len(v.List) == 0
 }
 
 func same(a, b api.Result) bool {
