@@ -9,6 +9,7 @@ import (
 
 	"fathom/api"
 	"fathom/show"
+	"fathom/trial"
 	"fathom/types"
 )
 
@@ -102,69 +103,27 @@ func TestOtherPrograms(t *testing.T) {
 
 // P12.4
 
-func roomy[T any](list []T, spare T) []T {
-	all := append(slices.Clone(list), spare, spare)
-	return all[:len(list)]
-}
-
-func roomyExpr(e api.Expr) api.Expr {
-	args := make([]api.Expr, len(e.Args))
-	for i, x := range e.Args {
-		args[i] = roomyExpr(x)
-	}
-	e.Args = roomy(args, api.Expr{Op: api.OpVar, Name: "spare", At: -1})
-	return e
-}
-
-func roomyProgram(p api.Program) api.Program {
-	var funcs []api.Func
-	for _, f := range p.Funcs {
-		f.Params, f.Body = roomy(f.Params, api.Param{Name: "x", Type: api.TypeB, At: -1}), roomyExpr(f.Body)
-		funcs = append(funcs, f)
-	}
-	return api.Program{Funcs: roomy(funcs, api.Func{Name: "spare", At: -1})}
-}
-
-// wholeOf is an expression with its spare room as if it were in use, in new memory.
-func wholeOf(e api.Expr) api.Expr {
-	var args []api.Expr
-	for _, x := range e.Args[:cap(e.Args)] {
-		args = append(args, wholeOf(x))
-	}
-	e.Args = args
-	return e
-}
-
-func wholeProgram(p api.Program) api.Program {
-	var q api.Program
-	for _, f := range p.Funcs[:cap(p.Funcs)] {
-		f.Params, f.Body = slices.Clone(f.Params[:cap(f.Params)]), wholeOf(f.Body)
-		q.Funcs = append(q.Funcs, f)
-	}
-	return q
-}
-
 func roomyCode(c api.Code) api.Code {
 	args := make([]api.Code, len(c.Args))
 	for i, x := range c.Args {
 		args[i] = roomyCode(x)
 	}
-	c.Args = roomy(args, api.Code{Op: api.CodeCall, Func: -9})
+	c.Args = trial.Roomy(args, api.Code{Op: api.CodeCall, Func: -9})
 	atoms := slices.Clone(c.Atoms)
 	for i := range atoms {
-		atoms[i].Lit.List = roomy(atoms[i].Lit.List, 8)
+		atoms[i].Lit.List = trial.Roomy(atoms[i].Lit.List, 8)
 	}
-	c.Atoms, c.Lit.List = roomy(atoms, api.Atom{Slot: -9}), roomy(c.Lit.List, 7)
+	c.Atoms, c.Lit.List = trial.Roomy(atoms, api.Atom{Slot: -9}), trial.Roomy(c.Lit.List, 7)
 	return c
 }
 
 func roomyCore(c api.Core) api.Core {
 	var supers []api.Super
 	for _, s := range c.Supers {
-		s.Params, s.Code = roomy(s.Params, 9), roomyCode(s.Code)
+		s.Params, s.Code = trial.Roomy(s.Params, 9), roomyCode(s.Code)
 		supers = append(supers, s)
 	}
-	return api.Core{Supers: roomy(supers, api.Super{Name: "spare", Slots: -9})}
+	return api.Core{Supers: trial.Roomy(supers, api.Super{Name: "spare", Slots: -9})}
 }
 
 func wholeCode(c api.Code) api.Code {
@@ -191,15 +150,15 @@ func wholeCore(c api.Core) api.Core {
 
 func TestWhatIsHandedInStays(t *testing.T) {
 	for _, drawn := range drawPrograms(t, 127, 1000, 40) {
-		p := roomyProgram(drawn)
-		before := wholeProgram(p)
+		p := trial.RoomyProgram(drawn)
+		before := trial.WholeProgram(p)
 		want, _ := Flatten(drawn)
 		got, e := Flatten(p)
 		if e != api.OK || !reflect.DeepEqual(got, want) {
 			t.Fatalf("%v: %v hangs on spare room, is not %v", drawn, got, want)
 		}
-		if !reflect.DeepEqual(wholeProgram(p), before) {
-			t.Fatalf("%v: no longer %v", wholeProgram(p), before)
+		if !reflect.DeepEqual(trial.WholeProgram(p), before) {
+			t.Fatalf("%v: no longer %v", trial.WholeProgram(p), before)
 		}
 		c := roomyCore(got)
 		old := wholeCore(c)

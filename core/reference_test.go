@@ -10,6 +10,7 @@ import (
 
 	"fathom/api"
 	"fathom/lang"
+	"fathom/trial"
 )
 
 // What Flatten and Check are held against: the document's words once more. Names are copied wherever one is bound; a core is
@@ -312,8 +313,7 @@ func drawPrograms(t *testing.T, seed int64, n, room int) []api.Program {
 	source := rand.New(rand.NewSource(seed))
 	var all []api.Program
 	for range n {
-		d := drawer{source: source, names: []string{"x", "y", "f0", "t1", "aa"}[:3+source.Intn(3)]}
-		all = append(all, programOf(t, d.program(room)))
+		all = append(all, programOf(t, trial.Program(source.Intn, room)))
 	}
 	return all
 }

@@ -7,6 +7,7 @@ import (
 	"testing"
 
 	"fathom/api"
+	"fathom/trial"
 )
 
 // P8.4
@@ -149,65 +150,22 @@ func TestOtherShapesEnd(t *testing.T) {
 
 // P8.5
 
-// roomy is a list with spare room behind it, filled with what is seen if it is touched.
-func roomy[T any](list []T, spare T) []T {
-	all := append(slices.Clone(list), spare, spare)
-	return all[:len(list)]
-}
-
-func roomyExpr(e api.Expr) api.Expr {
-	args := make([]api.Expr, len(e.Args))
-	for i, x := range e.Args {
-		args[i] = roomyExpr(x)
-	}
-	e.Args = roomy(args, api.Expr{Op: api.OpCall, Name: "spare", At: -1})
-	return e
-}
-
-func roomyProgram(p api.Program) api.Program {
-	var funcs []api.Func
-	for _, f := range p.Funcs {
-		f.Params, f.Body = roomy(f.Params, api.Param{Name: "spare", At: -1}), roomyExpr(f.Body)
-		funcs = append(funcs, f)
-	}
-	return api.Program{Funcs: roomy(funcs, api.Func{Name: "spare", At: -1})}
-}
-
-// whole is an expression with its spare room as if it were in use, in new memory.
-func whole(e api.Expr) api.Expr {
-	var args []api.Expr
-	for _, x := range e.Args[:cap(e.Args)] {
-		args = append(args, whole(x))
-	}
-	e.Args = args
-	return e
-}
-
-func wholeProgram(p api.Program) api.Program {
-	var q api.Program
-	for _, f := range p.Funcs[:cap(p.Funcs)] {
-		f.Params, f.Body = slices.Clone(f.Params[:cap(f.Params)]), whole(f.Body)
-		q.Funcs = append(q.Funcs, f)
-	}
-	return q
-}
-
 func TestWhatIsHandedInStays(t *testing.T) {
 	source := rand.New(rand.NewSource(86))
 	d := drawer{source: source}
 	for range 400 {
-		p := roomyProgram(programOf(t, d.program(drawCalls(source, 1+source.Intn(8), 20))))
-		before := wholeProgram(p)
+		p := trial.RoomyProgram(programOf(t, d.program(drawCalls(source, 1+source.Intn(8), 20))))
+		before := trial.WholeProgram(p)
 		expectByWords(t, p)
-		if !reflect.DeepEqual(wholeProgram(p), before) {
-			t.Fatalf("%v: no longer %v", wholeProgram(p), before)
+		if !reflect.DeepEqual(trial.WholeProgram(p), before) {
+			t.Fatalf("%v: no longer %v", trial.WholeProgram(p), before)
 		}
 	}
-	p := roomyProgram(programOf(t, "f():N=g();"))
-	before := wholeProgram(p)
+	p := trial.RoomyProgram(programOf(t, "f():N=g();"))
+	before := trial.WholeProgram(p)
 	expectShape(t, p)
-	if !reflect.DeepEqual(wholeProgram(p), before) {
-		t.Errorf("%v: no longer %v", wholeProgram(p), before)
+	if !reflect.DeepEqual(trial.WholeProgram(p), before) {
+		t.Errorf("%v: no longer %v", trial.WholeProgram(p), before)
 	}
 }
 

@@ -9,6 +9,7 @@ import (
 	"fathom/api"
 	"fathom/core"
 	"fathom/lang"
+	"fathom/trial"
 	"fathom/value"
 )
 
@@ -84,6 +85,11 @@ func (c *drawnCall) values() []api.Value {
 	return all
 }
 
+// drawer draws arguments and cores; the same each time for one source.
+type drawer struct{ source *rand.Rand }
+
+func one[T any](d *drawer, of []T) T { return of[d.source.Intn(len(of))] }
+
 func (d *drawer) value(t api.Type) api.Value {
 	v := one(d, map[api.Type][]api.Value{
 		api.TypeN: {{Num: 0}, {Num: 1}, {Num: 2}, {Num: -3 + 4i}, {Num: api.Most}},
@@ -128,8 +134,8 @@ func drawCalls(t *testing.T, seed int64, n, room int, args func(*drawer, []api.T
 	source := rand.New(rand.NewSource(seed))
 	var all []drawnCall
 	for range n {
-		d := &drawer{source: source, names: []string{"x", "y", "f0", "t1", "aa"}[:3+source.Intn(3)]}
-		text := d.program(room)
+		d := &drawer{source}
+		text := trial.Program(source.Intn, room)
 		p := programOf(t, text)
 		c := flat(t, p)
 		for _, s := range c.Supers {
@@ -142,6 +148,7 @@ func drawCalls(t *testing.T, seed int64, n, room int, args func(*drawer, []api.T
 // rawDrawer draws right cores of which no program knows: of whatever kinds come together, and with slots in any order.
 type rawDrawer struct {
 	drawer
+	room   int   // pieces that may still be drawn, about
 	params []int // of each function
 	bound  int   // of the function that is drawn
 }
@@ -268,7 +275,7 @@ func drawRaw(t *testing.T, seed int64, n, room int) []drawnCall {
 	source := rand.New(rand.NewSource(seed))
 	var all []drawnCall
 	for range n {
-		d := &rawDrawer{drawer: drawer{source: source}}
+		d := &rawDrawer{drawer: drawer{source}}
 		for range 1 + source.Intn(3) {
 			d.params = append(d.params, source.Intn(4))
 		}

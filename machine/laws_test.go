@@ -11,6 +11,7 @@ import (
 	"fathom/api"
 	"fathom/core"
 	"fathom/mean"
+	"fathom/trial"
 	"fathom/value"
 )
 
@@ -191,13 +192,8 @@ func TestFarShorter(t *testing.T) {
 
 // P14.4
 
-func roomy[T any](list []T, spare T) []T {
-	all := append(slices.Clone(list), spare, spare)
-	return all[:len(list)]
-}
-
 func roomyValue(v api.Value) api.Value {
-	v.List = roomy(v.List, 99)
+	v.List = trial.Roomy(v.List, 99)
 	return v
 }
 
@@ -209,17 +205,17 @@ func roomyCode(c api.Code) api.Code {
 	for i := range atoms {
 		atoms[i].Lit = roomyValue(atoms[i].Lit)
 	}
-	c.Args, c.Atoms, c.Lit = roomy(args, api.Code{Op: api.CodeFail, Slot: -3}), roomy(atoms, api.Atom{Slot: 77}), roomyValue(c.Lit)
+	c.Args, c.Atoms, c.Lit = trial.Roomy(args, api.Code{Op: api.CodeFail, Slot: -3}), trial.Roomy(atoms, api.Atom{Slot: 77}), roomyValue(c.Lit)
 	return c
 }
 
 func roomyCore(c api.Core) api.Core {
 	var supers []api.Super
 	for _, s := range c.Supers {
-		s.Params, s.Code = roomy(s.Params, 9), roomyCode(s.Code)
+		s.Params, s.Code = trial.Roomy(s.Params, 9), roomyCode(s.Code)
 		supers = append(supers, s)
 	}
-	return api.Core{Supers: roomy(supers, api.Super{Name: "spare"})}
+	return api.Core{Supers: trial.Roomy(supers, api.Super{Name: "spare"})}
 }
 
 func roomyArgs(args []api.Arg) []api.Arg {
@@ -227,19 +223,16 @@ func roomyArgs(args []api.Arg) []api.Arg {
 	for i := range all {
 		all[i].Value = roomyValue(all[i].Value)
 	}
-	return roomy(all, api.Arg{Kind: api.ArgPoison, Hole: 88})
+	return trial.Roomy(all, api.Arg{Kind: api.ArgPoison, Hole: 88})
 }
 
-// wholeOf is a list with its spare room as if it were in use, in new memory.
-func wholeOf[T any](list []T) []T { return slices.Clone(list[:cap(list)]) }
-
 func wholeValue(v api.Value) api.Value {
-	v.List = wholeOf(v.List)
+	v.List = trial.Whole(v.List)
 	return v
 }
 
 func wholeCode(c api.Code) api.Code {
-	c.Args, c.Atoms, c.Lit = wholeOf(c.Args), wholeOf(c.Atoms), wholeValue(c.Lit)
+	c.Args, c.Atoms, c.Lit = trial.Whole(c.Args), trial.Whole(c.Atoms), wholeValue(c.Lit)
 	for i := range c.Args {
 		c.Args[i] = wholeCode(c.Args[i])
 	}
@@ -250,15 +243,15 @@ func wholeCode(c api.Code) api.Code {
 }
 
 func wholeCore(c api.Core) api.Core {
-	supers := wholeOf(c.Supers)
+	supers := trial.Whole(c.Supers)
 	for i := range supers {
-		supers[i].Params, supers[i].Code = wholeOf(supers[i].Params), wholeCode(supers[i].Code)
+		supers[i].Params, supers[i].Code = trial.Whole(supers[i].Params), wholeCode(supers[i].Code)
 	}
 	return api.Core{Supers: supers}
 }
 
 func wholeArgs(args []api.Arg) []api.Arg {
-	all := wholeOf(args)
+	all := trial.Whole(args)
 	for i := range all {
 		all[i].Value = wholeValue(all[i].Value)
 	}

@@ -9,6 +9,7 @@ import (
 
 	"fathom/api"
 	"fathom/show"
+	"fathom/trial"
 	"fathom/value"
 )
 
@@ -118,54 +119,12 @@ func TestPlacesAlone(t *testing.T) {
 
 // P11.4
 
-func roomy[T any](list []T, spare T) []T {
-	all := append(slices.Clone(list), spare, spare)
-	return all[:len(list)]
-}
-
-func roomyExpr(e api.Expr) api.Expr {
-	args := make([]api.Expr, len(e.Args))
-	for i, x := range e.Args {
-		args[i] = roomyExpr(x)
-	}
-	e.Args = roomy(args, api.Expr{Op: api.OpVar, Name: "spare", At: -1})
-	return e
-}
-
-func roomyProgram(p api.Program) api.Program {
-	var funcs []api.Func
-	for _, f := range p.Funcs {
-		f.Params, f.Body = roomy(f.Params, api.Param{Name: "x", Type: api.TypeB, At: -1}), roomyExpr(f.Body)
-		funcs = append(funcs, f)
-	}
-	return api.Program{Funcs: roomy(funcs, api.Func{Name: "spare", At: -1})}
-}
-
 func roomyValues(args []api.Value) []api.Value {
 	all := slices.Clone(args)
 	for i := range all {
-		all[i].List = roomy(all[i].List, 99)
+		all[i].List = trial.Roomy(all[i].List, 99)
 	}
-	return roomy(all, api.Value{Type: api.TypeN, Num: 99})
-}
-
-// wholeOf is an expression with its spare room as if it were in use, in new memory.
-func wholeOf(e api.Expr) api.Expr {
-	var args []api.Expr
-	for _, x := range e.Args[:cap(e.Args)] {
-		args = append(args, wholeOf(x))
-	}
-	e.Args = args
-	return e
-}
-
-func wholeProgram(p api.Program) api.Program {
-	var q api.Program
-	for _, f := range p.Funcs[:cap(p.Funcs)] {
-		f.Params, f.Body = slices.Clone(f.Params[:cap(f.Params)]), wholeOf(f.Body)
-		q.Funcs = append(q.Funcs, f)
-	}
-	return q
+	return trial.Roomy(all, api.Value{Type: api.TypeN, Num: 99})
 }
 
 func wholeValues(args []api.Value) []api.Value {
@@ -178,8 +137,8 @@ func wholeValues(args []api.Value) []api.Value {
 
 func TestWhatIsHandedInStays(t *testing.T) {
 	for _, c := range drawCalls(t, 116, 1000, 40) {
-		p, args := roomyProgram(c.p), roomyValues(c.args)
-		oldProgram, oldArgs := wholeProgram(p), wholeValues(args)
+		p, args := trial.RoomyProgram(c.p), roomyValues(c.args)
+		oldProgram, oldArgs := trial.WholeProgram(p), wholeValues(args)
 		got, want := Call(p, c.f.Name, args, 300), Call(c.p, c.f.Name, c.args, 300)
 		if !same(got, want) {
 			t.Fatalf("%s%s %v: %v hangs on spare room, is not %v", c.text, c.f.Name, c.args, got, want)
@@ -187,7 +146,7 @@ func TestWhatIsHandedInStays(t *testing.T) {
 		for i := range got.Value.List[:cap(got.Value.List)] {
 			got.Value.List[:cap(got.Value.List)][i] = 77
 		}
-		if !reflect.DeepEqual(wholeProgram(p), oldProgram) || !reflect.DeepEqual(wholeValues(args), oldArgs) {
+		if !reflect.DeepEqual(trial.WholeProgram(p), oldProgram) || !reflect.DeepEqual(wholeValues(args), oldArgs) {
 			t.Fatalf("%s%s %v: not what it was", c.text, c.f.Name, c.args)
 		}
 	}

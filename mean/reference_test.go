@@ -4,13 +4,12 @@ import (
 	"maps"
 	"math/rand"
 	"slices"
-	"strconv"
-	"strings"
 	"testing"
 
 	"fathom/api"
 	"fathom/lang"
 	"fathom/prim"
+	"fathom/trial"
 	"fathom/value"
 )
 
@@ -129,168 +128,16 @@ func byWords(p api.Program, name string, args []api.Value, most int) (r api.Resu
 	return api.Result{Value: w.call(name, func(i int) func() found { return given(args[i]) }).whole()}
 }
 
-// drawer draws a sound program's text, of few names, so that they are often bound anew; the same each time for one source.
-type drawer struct {
-	source *rand.Rand
-	room   int // parts that may still be drawn, about
-	names  []string
-	funcs  []string // name, the parameters' letters, the type's letter
-	env    []string // name and letter, the nearest last
-}
-
-// letters are the types' letters, at their numbers.
-const letters = " NBL"
-
-func (d *drawer) letter() byte { return letters[1+d.source.Intn(3)] }
-
-func (d *drawer) name() string { return d.names[d.source.Intn(len(d.names))] }
-
-func one[T any](d *drawer, of []T) T { return of[d.source.Intn(len(of))] }
-
-// forms are what may be drawn of a type: ? is a variable, & a call, let, strict and case what is said by these; in all
-// others N, B and L are parts of that type, and $ is one of the same type.
-func (d *drawer) forms(letter byte) []string {
-	plain := map[byte][]string{'N': {"1", "2i", "0", "3", "16777216"}, 'B': {"true", "false"}, 'L': {"nil"}}[letter]
-	variable := []string{"?", "?", "?", "?", "?", "?"}
-	if d.source.Intn(20) == 0 {
-		variable[0] = "fail " + string(letter)
-	}
-	if d.room <= 0 {
-		return append(plain, variable...)
-	}
-	own := map[byte][]string{
-		'N': {"N+N", "N-N", "N*N", "N/N", "re(N)", "im(N)", "conj(N)"},
-		'B': {"N==N", "N<N", "not(B)", "not(B)"},
-		'L': {"N:L", "N:L", "N:L", "N:L"},
-	}[letter]
-	same := []string{"&", "&", "&", "if B then $ else $", "if B then $ else $", "let", "let", "strict", "strict", "case", "case"}
-	return slices.Concat(variable[:2], own, own, same)
-}
-
-func (d *drawer) expr(letter byte) string {
-	d.room--
-	switch form := one(d, d.forms(letter)); form {
-	case "let", "strict":
-		return d.binder(form, letter)
-	case "case":
-		return d.looksInto(letter)
-	case "&":
-		return d.call(letter)
-	case "?":
-		return d.variable(letter)
-	default:
-		return d.fill(form, letter)
-	}
-}
-
-func (d *drawer) fill(form string, letter byte) string {
-	if strings.HasPrefix(form, "fail") {
-		return form
-	}
-	var text strings.Builder
-	for _, c := range []byte(form) {
-		switch c {
-		case 'N', 'B', 'L':
-			text.WriteString("(" + d.expr(c) + ")")
-		case '$':
-			text.WriteString("(" + d.expr(letter) + ")")
-		default:
-			text.WriteByte(c)
-		}
-	}
-	return text.String()
-}
-
-// in draws while more names are bound.
-func (d *drawer) in(letter byte, bound ...string) string {
-	d.env = append(d.env, bound...)
-	text := d.expr(letter)
-	d.env = d.env[:len(d.env)-len(bound)]
-	return "(" + text + ")"
-}
-
-func (d *drawer) binder(word string, letter byte) string {
-	bound, of := d.name()+" ", d.letter()
-	bound += string(of)
-	if word == "let" {
-		return "let " + bound + "=" + d.in(of, bound) + " in " + d.in(letter, bound)
-	}
-	return "strict " + bound + "=" + d.in(of) + " in " + d.in(letter, bound)
-}
-
-func (d *drawer) looksInto(letter byte) string {
-	head, tail := d.name(), d.name()
-	return "case " + d.in('L') + " of nil->" + d.in(letter) + "|" + head + ":" + tail + "->" + d.in(letter, head+" N", tail+" L")
-}
-
-// variable is one of that type, if its name isn't bound anew nearer; else what stands for itself.
-func (d *drawer) variable(letter byte) string {
-	seen := map[string]int{}
-	var fit []string
-	for _, x := range slices.Backward(d.env) {
-		name := x[:len(x)-2]
-		if seen[name]++; seen[name] == 1 && x[len(x)-1] == letter {
-			fit = append(fit, name)
-		}
-	}
-	if len(fit) == 0 {
-		return map[byte]string{'N': "4", 'B': "false", 'L': "nil"}[letter]
-	}
-	return one(d, fit)
-}
-
-func (d *drawer) call(letter byte) string {
-	for range 20 {
-		name, kinds, _ := strings.Cut(one(d, d.funcs), " ")
-		if kinds[len(kinds)-1] != letter {
-			continue
-		}
-		var args []string
-		for _, c := range []byte(kinds[:len(kinds)-1]) {
-			args = append(args, d.expr(c))
-		}
-		return name + "(" + strings.Join(args, ", ") + ")"
-	}
-	return d.variable(letter)
-}
-
-// definition is one of the functions; its parameters have the first names, so that none stands twice.
-func (d *drawer) definition(f string) string {
-	name, kinds, _ := strings.Cut(f, " ")
-	d.env = nil
-	for i, c := range []byte(kinds[:len(kinds)-1]) {
-		d.env = append(d.env, d.names[i]+" "+string(c))
-	}
-	params, letter := strings.Join(d.env, ", "), kinds[len(kinds)-1]
-	return name + "(" + params + "): " + string(letter) + " = " + d.expr(letter) + ";\n"
-}
-
-func (d *drawer) program(room int) string {
-	d.funcs = nil
-	for i := range 1 + d.source.Intn(4) {
-		kinds := ""
-		for range d.source.Intn(4) {
-			kinds += string(d.letter())
-		}
-		d.funcs = append(d.funcs, []string{"f", "x", "g", "h"}[i]+strconv.Itoa(i)+" "+kinds+string(d.letter()))
-	}
-	text := ""
-	for _, f := range d.funcs {
-		d.room = d.source.Intn(room)
-		text += d.definition(f)
-	}
-	return text
-}
-
 // arguments are values that fit parameters.
-func (d *drawer) arguments(params []api.Param) []api.Value {
+func arguments(source *rand.Rand, params []api.Param) []api.Value {
 	var all []api.Value
 	for _, param := range params {
-		all = append(all, one(d, map[api.Type][]api.Value{
+		values := map[api.Type][]api.Value{
 			api.TypeN: {{Num: 0}, {Num: 1}, {Num: 2}, {Num: -3 + 4i}, {Num: api.Most}},
 			api.TypeB: {{Bool: false}, {Bool: true}},
 			api.TypeL: {{}, {List: []complex128{5}}, {List: []complex128{1, 2i}}, {List: []complex128{0, -1, 7 - 1i}}},
-		}[param.Type]))
+		}[param.Type]
+		all = append(all, values[source.Intn(len(values))])
 		all[len(all)-1].Type = param.Type
 	}
 	return all
@@ -330,11 +177,10 @@ func drawCalls(t *testing.T, seed int64, n, room int) []drawnCall {
 	source := rand.New(rand.NewSource(seed))
 	var all []drawnCall
 	for range n {
-		d := drawer{source: source, names: []string{"x", "y", "f0", "t1", "aa"}[:3+source.Intn(3)]}
-		text := d.program(room)
+		text := trial.Program(source.Intn, room)
 		p := programOf(t, text)
 		for _, f := range p.Funcs {
-			all = append(all, drawnCall{p, text, f, d.arguments(f.Params)})
+			all = append(all, drawnCall{p, text, f, arguments(source, f.Params)})
 		}
 	}
 	return all

@@ -8,6 +8,7 @@ import (
 
 	"fathom/api"
 	"fathom/show"
+	"fathom/trial"
 )
 
 // withoutPlaces is a program with each place 0, in new memory.
@@ -190,53 +191,10 @@ func TestOtherShapesEnd(t *testing.T) {
 
 // P6.5
 
-// roomy is a list with spare room behind it, filled with what is seen if it is touched.
-func roomy[T any](list []T, spare T) []T {
-	all := append(slices.Clone(list), spare, spare)
-	return all[:len(list)]
-}
-
-func roomyExpr(e api.Expr) api.Expr {
-	args := make([]api.Expr, len(e.Args))
-	for i, x := range e.Args {
-		args[i] = roomyExpr(x)
-	}
-	e.Args = roomy(args, api.Expr{Op: api.OpVar, Name: "spare", At: -1})
-	return e
-}
-
-func roomyProgram(p api.Program) api.Program {
-	var funcs []api.Func
-	for _, f := range p.Funcs {
-		f.Params, f.Body = roomy(f.Params, api.Param{Name: "spare", At: -1}), roomyExpr(f.Body)
-		funcs = append(funcs, f)
-	}
-	return api.Program{Funcs: roomy(funcs, api.Func{Name: "spare", At: -1})}
-}
-
-// whole is an expression with its spare room as if it were in use, in new memory.
-func whole(e api.Expr) api.Expr {
-	var args []api.Expr
-	for _, x := range e.Args[:cap(e.Args)] {
-		args = append(args, whole(x))
-	}
-	e.Args = args
-	return e
-}
-
-func wholeProgram(p api.Program) api.Program {
-	var q api.Program
-	for _, f := range p.Funcs[:cap(p.Funcs)] {
-		f.Params, f.Body = slices.Clone(f.Params[:cap(f.Params)]), whole(f.Body)
-		q.Funcs = append(q.Funcs, f)
-	}
-	return q
-}
-
 func TestWhatIsHandedInStays(t *testing.T) {
 	for _, drawn := range drawPrograms(t, 68, 500, 40) {
-		p := roomyProgram(drawn)
-		before := wholeProgram(p)
+		p := trial.RoomyProgram(drawn)
+		before := trial.WholeProgram(p)
 		if got, want := Check(p), Check(drawn); got != want {
 			t.Fatalf("%v: %v hangs on spare room, is not %v", drawn, got, want)
 		}
@@ -249,11 +207,11 @@ func TestWhatIsHandedInStays(t *testing.T) {
 				t.Fatalf("%v: its size or nesting hangs on spare room", g)
 			}
 		}
-		if !reflect.DeepEqual(wholeProgram(p), before) {
-			t.Fatalf("%v: no longer %v", wholeProgram(p), before)
+		if !reflect.DeepEqual(trial.WholeProgram(p), before) {
+			t.Fatalf("%v: no longer %v", trial.WholeProgram(p), before)
 		}
 	}
-	taken := roomy([]string{"t3", "t1", "x"}, "t2")
+	taken := trial.Roomy([]string{"t3", "t1", "x"}, "t2")
 	before := slices.Clone(taken[:cap(taken)])
 	if got, e := Fresh(taken, 2); e != api.OK || !slices.Equal(got, []string{"t2", "t4"}) || !slices.Equal(taken[:cap(taken)], before) {
 		t.Errorf("%q, %v; %q", got, e, taken[:cap(taken)])
@@ -269,7 +227,7 @@ func overwrite(list []string) {
 
 func TestAnswersAreNew(t *testing.T) {
 	p := programOf(t, "f(x N,y N):N=let a N=x in case b of nil->g(c)|h:t->y;")
-	before := wholeProgram(p)
+	before := trial.WholeProgram(p)
 	f := p.Funcs[0]
 	taken := []string{"t2", "x"}
 	for range 2 {
@@ -282,7 +240,7 @@ func TestAnswersAreNew(t *testing.T) {
 		overwrite(names)
 		overwrite(fresh)
 	}
-	if !reflect.DeepEqual(wholeProgram(p), before) || !slices.Equal(taken, []string{"t2", "x"}) {
+	if !reflect.DeepEqual(trial.WholeProgram(p), before) || !slices.Equal(taken, []string{"t2", "x"}) {
 		t.Errorf("%v, %q", p, taken)
 	}
 }

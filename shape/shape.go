@@ -7,19 +7,20 @@ import "fathom/api"
 // layer 7 doesn't tell of it, but it would be looked at.
 func Whole(p api.Program) bool {
 	for i := range p.Funcs {
-		if !wholeExpr(&p.Funcs[i].Body) {
+		if !WholeExpr(&p.Funcs[i].Body) {
 			return false
 		}
 	}
 	return true
 }
 
-func wholeExpr(e *api.Expr) bool {
+// WholeExpr says the same of one expression.
+func WholeExpr(e *api.Expr) bool {
 	if e.Op != api.OpCall && len(e.Args) != partsOf(e.Op) {
 		return false
 	}
 	for i := range e.Args {
-		if !wholeExpr(&e.Args[i]) {
+		if !WholeExpr(&e.Args[i]) {
 			return false
 		}
 	}

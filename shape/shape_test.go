@@ -32,7 +32,7 @@ func TestCounts(t *testing.T) {
 			}
 			for _, body := range []api.Expr{e, {Op: api.OpNot, Args: []api.Expr{e}}, {Op: api.OpCall, Args: []api.Expr{{Op: api.OpTrue}, e}}} {
 				p := api.Program{Funcs: []api.Func{{Body: api.Expr{Op: api.OpNum}}, {Body: body}}}
-				if want := n == count || count == -2; Whole(p) != want {
+				if want := n == count || count == -2; Whole(p) != want || WholeExpr(&body) != want {
 					t.Errorf("Op %d of %d parts: %t", op, n, !want)
 				}
 			}

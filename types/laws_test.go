@@ -8,6 +8,7 @@ import (
 
 	"fathom/api"
 	"fathom/show"
+	"fathom/trial"
 )
 
 // withoutPlaces is a program with each place 0, in new memory.
@@ -185,57 +186,14 @@ func TestOtherShapesEnd(t *testing.T) {
 
 // P7.4
 
-// roomy is a list with spare room behind it, filled with what is seen if it is touched.
-func roomy[T any](list []T, spare T) []T {
-	all := append(slices.Clone(list), spare, spare)
-	return all[:len(list)]
-}
-
-func roomyExpr(e api.Expr) api.Expr {
-	args := make([]api.Expr, len(e.Args))
-	for i, x := range e.Args {
-		args[i] = roomyExpr(x)
-	}
-	e.Args = roomy(args, api.Expr{Op: api.OpVar, Name: "spare", At: -1})
-	return e
-}
-
 func roomyParams(params []api.Param) []api.Param {
-	return roomy(params, api.Param{Name: "x", Type: api.TypeB, At: -1})
-}
-
-func roomyProgram(p api.Program) api.Program {
-	var funcs []api.Func
-	for _, f := range p.Funcs {
-		f.Params, f.Body = roomyParams(f.Params), roomyExpr(f.Body)
-		funcs = append(funcs, f)
-	}
-	return api.Program{Funcs: roomy(funcs, api.Func{Name: "spare", At: -1})}
-}
-
-// whole is an expression with its spare room as if it were in use, in new memory.
-func whole(e api.Expr) api.Expr {
-	var args []api.Expr
-	for _, x := range e.Args[:cap(e.Args)] {
-		args = append(args, whole(x))
-	}
-	e.Args = args
-	return e
-}
-
-func wholeProgram(p api.Program) api.Program {
-	var q api.Program
-	for _, f := range p.Funcs[:cap(p.Funcs)] {
-		f.Params, f.Body = slices.Clone(f.Params[:cap(f.Params)]), whole(f.Body)
-		q.Funcs = append(q.Funcs, f)
-	}
-	return q
+	return trial.Roomy(params, api.Param{Name: "x", Type: api.TypeB, At: -1})
 }
 
 func TestWhatIsHandedInStays(t *testing.T) {
 	for _, drawn := range drawPrograms(t, 76, 500, 40, 3) {
-		p := roomyProgram(drawn)
-		before := wholeProgram(p)
+		p := trial.RoomyProgram(drawn)
+		before := trial.WholeProgram(p)
 		if got, want := Check(p), Check(drawn); got != want {
 			t.Fatalf("%v: %v hangs on spare room, is not %v", drawn, got, want)
 		}
@@ -250,8 +208,8 @@ func TestWhatIsHandedInStays(t *testing.T) {
 				t.Fatalf("%v: no longer %v", env[:cap(env)], old)
 			}
 		}
-		if !reflect.DeepEqual(wholeProgram(p), before) {
-			t.Fatalf("%v: no longer %v", wholeProgram(p), before)
+		if !reflect.DeepEqual(trial.WholeProgram(p), before) {
+			t.Fatalf("%v: no longer %v", trial.WholeProgram(p), before)
 		}
 	}
 }
